@@ -1,0 +1,1 @@
+"""Latestrows: readers of the latest row, decided for all tables."""

@@ -1,0 +1,9 @@
+"""The limits that the program states."""
+
+MAX_LOOKS = 3
+MAX_GRID_TIMES = 2
+MAX_PARTS = 20
+MAX_DEPTH = 8
+MAX_STEP = 60
+MAX_DISTANCE = 1000000000
+MAX_COLUMNS = 4
