@@ -1,7 +1,12 @@
 """Tables: finite sets of rows (feed, time, value)."""
 
-from latestrows.errors import InvalidRows, MissingRow
+from latestrows.errors import InvalidRows, MissingRow, NotATable
 from latestrows.kinds import check_name, check_number, check_time, is_row
+
+
+def check_table(value):
+    if not isinstance(value, Table):
+        raise NotATable(value)
 
 
 class Table:

@@ -33,12 +33,23 @@ CLASSES = {
         "Else": {"__init__": "(self, first, second)", **READER},
         "IfEarlier": {"__init__": "(self, time, other, first, second)", **READER},
     },
+    "settings": {
+        "Setting": {"__init__": "(self, *, grid=None, apart=(), on_grid=(), at_rows=None)", "distance": "(self, feed)",
+                    "keeps": "(self, table)", "asks": "(self, table, time)", "with_rows_of": "(self, feed)",
+                    "__str__": "(self)", "__eq__": "(self, other)", "__repr__": "(self)"},
+    },
+    "comparing": {"Example": {"__init__": "(self, table, time)"}},
 }
 
-STATIC = {("tables", "Table", "of"): "(rows)"}
+STATIC = {("tables", "Table", "of"): "(rows)", ("settings", "Setting", "read"): "(text)"}
 
 FUNCTIONS = {
     "texts": {"read_time": "(text)", "read_look": "(text)", "read_reader": "(text)"},
+    "running": {"read": "(reader, table, time, *, grid=None)", "outcome": "(reader, table, time, *, grid=None)",
+                "find": "(look, table, time, *, grid=None)"},
+    "comparing": {"alike": "(reader, other, setting)", "difference": "(reader, other, setting)",
+                  "outcomes": "(reader, setting)"},
+    "ages": {"age_range": "(reader, feed, setting)", "example_aged": "(reader, feed, age, setting)"},
 }
 
 

@@ -31,6 +31,18 @@ BARRED = (
     "NamedTuple TypedDict TYPE_CHECKING abstractmethod type register mro elements open input law eval exec"
 ).split()
 
+# The methods of strings, lists, dicts and sets that may be called.
+METHODS = (
+    "append clear copy count endswith extend find get index insert isalnum isalpha isdigit islower isspace isupper "
+    "items join keys ljust lower lstrip partition pop remove replace reverse rfind rjust rpartition rsplit rstrip "
+    "setdefault split splitlines startswith strip update upper values zfill bit_length removeprefix removesuffix "
+    "add discard"
+).split()
+
+DOUBLE_UNDERSCORE = (
+    "__init__ __eq__ __repr__ __str__ __len__ __iter__ __contains__ __add__ __sub__ __or__"
+).split()
+
 BARRED_NODES = (
     ast.Global, ast.AsyncFunctionDef, ast.AsyncFor, ast.AsyncWith, ast.Await, ast.Div, ast.MatMult, ast.MatchMapping,
 )
@@ -118,6 +130,75 @@ class LanguageTest(unittest.TestCase):
                     self.assertNotIsInstance(node.value, (float, complex), name)
                 if isinstance(node, ast.Constant) and isinstance(node.value, str):
                     self.assertNotIn("%", node.value, name)
+
+    def test_methods(self):
+        own = [node.name for _, tree in trees() for node in ast.walk(tree) if isinstance(node, ast.FunctionDef)]
+        self.assertEqual([name for name in own if name.startswith("__") and name not in DOUBLE_UNDERSCORE], [])
+        for name, tree in trees():
+            for node in ast.walk(tree):
+                if isinstance(node, ast.Call) and isinstance(node.func, ast.Attribute):
+                    self.assertIn(node.func.attr, own + METHODS, (name, node.lineno))
+
+    def test_attributes_are_assigned_and_are_no_methods(self):
+        stored, methods, read = set(), set(), set()
+        for _, tree in trees():
+            for node in ast.walk(tree):
+                if isinstance(node, ast.ClassDef):
+                    methods |= {part.name for part in node.body if isinstance(part, ast.FunctionDef)}
+                elif isinstance(node, ast.Attribute):
+                    (stored if isinstance(node.ctx, ast.Store) else read).add(node.attr)
+        self.assertEqual(sorted(stored & methods), [])
+        self.assertEqual(sorted(read - stored - methods - set(METHODS)), [])
+
+    def test_generator_expressions_stand_where_they_may(self):
+        for name, tree in trees():
+            parents = {id(child): node for node in ast.walk(tree) for child in ast.iter_child_nodes(node)}
+            for node in ast.walk(tree):
+                if isinstance(node, ast.GeneratorExp):
+                    self.assertIn(parents[id(node)].func.id, ("list", "tuple", "dict"), (name, node.lineno))
+
+    def test_is_stands_beside_none_true_and_false(self):
+        for name, tree in trees():
+            for node in ast.walk(tree):
+                if isinstance(node, ast.Compare) and isinstance(node.ops[0], (ast.Is, ast.IsNot)):
+                    self.assertIn(node.comparators[0].value, (None, True, False), (name, node.lineno))
+
+    def test_texts_of_objects(self):
+        for name, tree in trees():
+            for node in ast.walk(tree):
+                if isinstance(node, ast.FunctionDef) and node.name in ("__str__", "__repr__"):
+                    given = node.body[-1].value
+                    called = isinstance(given, ast.Call) and given.func.id == "str"
+                    self.assertTrue(called or isinstance(given, ast.JoinedStr), (name, node.lineno))
+
+    def test_iterations_that_are_kept_or_passed_on(self):
+        places = (ast.For, ast.comprehension)
+        takers = ("list", "tuple", "dict", "sorted", "sum", "enumerate", "zip")
+        lazy = ["zip", "enumerate", "range"] + self.generators()
+        for name, tree in trees():
+            parents = {id(child): node for node in ast.walk(tree) for child in ast.iter_child_nodes(node)}
+            for node in ast.walk(tree):
+                called = isinstance(node, ast.Call) and getattr(node.func, "id", getattr(node.func, "attr", None))
+                if called and called in lazy:
+                    around = parents[id(node)]
+                    iterated = isinstance(around, places) and around.iter is node
+                    taken = isinstance(around, ast.Call) and getattr(around.func, "id", None) in takers
+                    self.assertTrue(iterated or taken or isinstance(around, ast.YieldFrom), (name, node.lineno))
+
+    def generators(self):
+        return [node.name for _, tree in trees() for node in ast.walk(tree) if isinstance(node, ast.FunctionDef)
+                and any(isinstance(part, (ast.Yield, ast.YieldFrom)) for part in ast.walk(node))]
+
+    def test_no_files_import_from_each_other(self):
+        imports = {}
+        for name, tree in trees():
+            imports[name] = [node.module.split(".")[1] + ".py" for node in tree.body
+                             if isinstance(node, ast.ImportFrom) and node.module.startswith("latestrows.")]
+        left = dict(imports)
+        while left:
+            free = [name for name in left if not [other for other in left[name] if other in left]]
+            self.assertNotEqual(free, [], sorted(left))
+            left = {name: left[name] for name in left if name not in free}
 
     def test_words_that_are_barred(self):
         for path in files():

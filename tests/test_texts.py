@@ -175,8 +175,9 @@ class InvalidTextsTest(RaisingCase):
             self.assert_invalid(text)
         for text in ("missing()", "missing(missing)", "value", "value()", "value(before(a, now)", "constant",
                      "constant()", "constant(1, 2)", "constant((1))", "constant(1())", "else(missing)",
-                     "else(missing, missing", "else(missing, missing, missing)", "else()", "ifearlier(now, now, missing)", "5", "a",
-                     "ifearlier(now, now, missing, missing, missing)", "missing, missing", "value(before(a, now)) "):
+                     "else(missing, missing", "else(missing, missing, missing)", "else()",
+                     "ifearlier(now, now, missing)", "ifearlier(now, now, missing, missing, missing)", "5", "a",
+                     "missing, missing", "value(before(a, now)) "):
             self.assert_invalid(text)
 
     def test_capital_letters_and_other_words(self):
