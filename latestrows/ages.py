@@ -10,6 +10,7 @@ from latestrows.settings import check_setting_for
 
 
 def age_range(reader, feed, setting):
+    """The least and the greatest age of the rows of the feed that are given; None for a side without a bound."""
     check_reader(reader)
     check_name(feed)
     readers = [reader]
@@ -30,6 +31,7 @@ def _integer(side):
 
 
 def example_aged(reader, feed, age, setting):
+    """An Example at which a row of the feed with this age is given; None if there is none."""
     check_reader(reader)
     check_name(feed)
     check_number(age)

@@ -15,10 +15,12 @@ class Example:
 
 
 def alike(reader, other, setting):
+    """Whether the readers give the same on all tables at all times."""
     return difference(reader, other, setting) is None
 
 
 def difference(reader, other, setting):
+    """An Example at which the readers do not give the same; None if there is none."""
     check_reader(reader)
     check_reader(other)
     readers = [reader, other]
@@ -33,6 +35,7 @@ def difference(reader, other, setting):
 
 
 def outcomes(reader, setting):
+    """What the outcomes are on all tables at all times, as texts in ascending order."""
     check_reader(reader)
     readers = [reader]
     check_setting_for(readers, setting)

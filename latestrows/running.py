@@ -8,18 +8,21 @@ from latestrows.times import Before, Ceil, Floor, Now, Shift, check_look
 
 
 def find(look, table, time, *, grid=None):
+    """The row that the look finds, or None."""
     check_look(look)
     _check_asked([look], table, time, grid)
     return Run(table, time, grid).row(look)
 
 
 def outcome(reader, table, time, *, grid=None):
+    """The row whose value the reader gives, or ("constant", N), or None for nothing."""
     check_reader(reader)
     _check_asked([reader], table, time, grid)
     return Run(table, time, grid).outcome_of(reader)
 
 
 def read(reader, table, time, *, grid=None):
+    """The integer that the reader gives, or None for nothing."""
     check_reader(reader)
     _check_asked([reader], table, time, grid)
     given = Run(table, time, grid).outcome_of(reader)

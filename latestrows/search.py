@@ -96,9 +96,9 @@ def solution(way):
 
 
 def greatest(way, x, y, best):
-    """The greatest difference x - y on the way, or the best one so far if that is not less; FAR for any difference.
+    """The greatest difference x - y on the way if it is above the best one so far, and else that one.
 
-    Both are None if there is none.
+    None stands for that there is none so far, FAR for that there is no greatest.
     """
     most = way.bounds.greatest(x, y)
     if most is None:
@@ -141,13 +141,13 @@ def _keeps(values, side):
 def shown(way, values, outcomes):
     """The table and the time that these integers make; outcomes that are unlike give different integers there."""
     constants = [what for word, what in outcomes if word == CONSTANT]
-    rows = {}
-    value = 0
+    numbers = {}
+    number = 0
     for feed, unknown in way.rows:
-        if (feed, values[unknown]) not in rows:
-            value += 1
-            while value in constants:
-                value += 1
-            rows[feed, values[unknown]] = value
-    table = Table.of(tuple([(feed, time, rows[feed, time]) for feed, time in rows]))
+        if (feed, values[unknown]) not in numbers:
+            number += 1
+            while number in constants:
+                number += 1
+            numbers[feed, values[unknown]] = number
+    table = Table.of(tuple([(feed, time, numbers[feed, time]) for feed, time in numbers]))
     return table, values[ASKED]
