@@ -4,30 +4,24 @@ from latestrows.comparing import Example
 from latestrows.errors import NeverRead
 from latestrows.kinds import check_name, check_number
 from latestrows.readers import check_reader
-from latestrows.scenes import ASKED
-from latestrows.search import FAR, ROW, greatest, outcome_ways, shown, solution
+from latestrows.scenes import ASKED, Scene
+from latestrows.search import FAR, greatest, outcome_ways, shown, solution
 from latestrows.settings import check_setting_for
+from latestrows.steps import ROW
 
 
 def age_range(reader, feed, setting):
     """The least and the greatest age of the rows of the feed that are given; None for a side without a bound."""
     check_reader(reader)
     check_name(feed)
-    readers = [reader]
-    check_setting_for(readers, setting)
+    check_setting_for([reader], setting)
     oldest = ahead = None
-    for way, outcomes in outcome_ways(readers, setting):
-        if _is_row_of(outcomes[0], feed):
-            row = _row_given(way, outcomes[0])
-            oldest = greatest(way, ASKED, row, oldest)
-            ahead = greatest(way, row, ASKED, ahead)
+    for way, row in _ways_to_rows(reader, feed, setting):
+        oldest = greatest(way, ASKED, row, oldest)
+        ahead = greatest(way, row, ASKED, ahead)
     if oldest is None:
         raise NeverRead(feed)
-    return _integer(-ahead), _integer(oldest)
-
-
-def _integer(side):
-    return None if abs(side) == FAR else side
+    return (None if ahead == FAR else -ahead), (None if oldest == FAR else oldest)
 
 
 def example_aged(reader, feed, age, setting):
@@ -35,23 +29,34 @@ def example_aged(reader, feed, age, setting):
     check_reader(reader)
     check_name(feed)
     check_number(age)
-    readers = [reader]
-    check_setting_for(readers, setting)
-    for way, outcomes in outcome_ways(readers, setting):
-        if _is_row_of(outcomes[0], feed):
-            row = _row_given(way, outcomes[0])
-            aged = way.with_bounds([(ASKED, row, age), (row, ASKED, -age)])
-            values = None if aged is None else solution(aged)
-            if values is not None:
-                table, time = shown(aged, values, outcomes)
-                return Example(table, time)
+    check_setting_for([reader], setting)
+    for way, row in _ways_to_rows(reader, feed, setting):
+        aged = way.with_bounds([(ASKED, row, age), (row, ASKED, -age)])
+        values = None if aged is None else solution(aged)
+        if values is not None:
+            table, time = shown(aged, values, [])
+            return Example(table, time)
     return None
 
 
-def _is_row_of(outcome, feed):
-    word, what = outcome
-    return word == ROW and what.feed == feed
+def least_age_above(reader, feed, number, setting):
+    """The least age above the number of the rows of the feed that are given; None if there is none."""
+    check_reader(reader)
+    check_name(feed)
+    check_number(number)
+    check_setting_for([reader], setting)
+    ahead = None
+    for way, row in _ways_to_rows(reader, feed, setting):
+        older = way.with_bounds([(row, ASKED, -number - 1)])
+        if older is not None:
+            ahead = greatest(older, row, ASKED, ahead)
+    return None if ahead is None else -ahead
 
 
-def _row_given(way, outcome):
-    return way.scene.place(outcome[1])
+def _ways_to_rows(reader, feed, setting):
+    """Each way on which a row of the feed is given, with the unknown for its time."""
+    scene = Scene([("", reader)], setting)
+    for way, steps in outcome_ways(scene):
+        word, what = steps[0]
+        if word == ROW and what.feed == feed:
+            yield way, what.place

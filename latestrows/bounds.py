@@ -4,7 +4,24 @@
 def no_bounds(many, on_grid, grid):
     """The bounds of so many unknowns of which nothing is known but which of them are on the grid."""
     lines = [[0 if x == y else None for y in range(many)] for x in range(many)]
-    return Bounds(lines, on_grid, grid)
+    chains = [[None] * many for _ in range(many)]
+    return Bounds(lines, chains, on_grid, grid)
+
+
+def required_in(chain):
+    """The bounds that were required, and that the chain comes from, in the order in which they join."""
+    found = []
+    left = [chain]
+    while left:
+        part = left.pop()
+        if part is None:
+            continue
+        first, second, third = part
+        if isinstance(first, int):
+            found.append(part)
+        else:
+            left.extend([third, second, first])
+    return found
 
 
 class Bounds:
@@ -14,15 +31,23 @@ class Bounds:
     greater than the bounds of X - Z and of Z - Y together, and between two
     unknowns on the grid it is a multiple of the step. So integers that keep all
     bounds exist exactly if no X - X would have to be below 0.
+
+    `chains[X][Y]` tells where it comes from: it is None for no bound and for
+    X - X, and otherwise the triple of the chain from X, of a bound (X, Y, C) that
+    was required (or None), and of the chain to Y. If the
+    bounds cannot be kept, `clash` is the chain of an X - X that is below 0.
     """
 
-    def __init__(self, lines, on_grid, grid):
+    def __init__(self, lines, chains, on_grid, grid):
         self.lines = lines
+        self.chains = chains
         self.on_grid = on_grid
         self.grid = grid
+        self.clash = None
 
     def copied(self):
-        return Bounds([list(line) for line in self.lines], self.on_grid, self.grid)
+        lines = [list(line) for line in self.lines]
+        return Bounds(lines, [list(line) for line in self.chains], self.on_grid, self.grid)
 
     def rules_out(self, x, y, most):
         """Whether x - y <= most cannot be, as y - x is bounded, too."""
@@ -36,28 +61,37 @@ class Bounds:
 
     def require(self, x, y, most):
         """Adds x - y <= most; tells whether there still are integers that keep all bounds."""
+        required = (x, y, most)
         if self.rules_out(x, y, most):
+            self.clash = (required, None, self.chains[y][x])
             return False
         if self.holds(x, y, most):
             return True
-        self._join(x, y, most)
+        self._join(x, y, most, required)
         if not self._round_down():
             return True
         for middle in self.on_grid:
-            self._join(middle, middle, 0)
-        return all([line[z] >= 0 for z, line in enumerate(self.lines)])
+            self._join(middle, middle, 0, None)
+        for z, line in enumerate(self.lines):
+            if line[z] < 0:
+                self.clash = self.chains[z][z]
+                return False
+        return True
 
-    def _join(self, x, y, most):
+    def _join(self, x, y, most, required):
         """Lowers each bound that is greater than what the way over x - y <= most comes to."""
-        behind = [(z, most + known) for z, known in enumerate(self.lines[y]) if known is not None]
-        for line in self.lines:
+        to_end = self.chains[y]
+        behind = [(z, most + known, to_end[z]) for z, known in enumerate(self.lines[y]) if known is not None]
+        for line, chains in zip(self.lines, self.chains):
             ahead = line[x]
             if ahead is None:
                 continue
-            for z, rest in behind:
+            from_start = chains[x]
+            for z, rest, chain in behind:
                 known = line[z]
                 if known is None or ahead + rest < known:
                     line[z] = ahead + rest
+                    chains[z] = (from_start, required, chain)
 
     def _round_down(self):
         """Rounds the bounds between unknowns on the grid; tells whether one of them has become smaller."""

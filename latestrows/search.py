@@ -1,93 +1,61 @@
 """Goes through the ways on which readers have outcomes, and finds tables and times for them (points 16 and 17)."""
 
-from latestrows.readers import Constant, Else, Missing, Value
-from latestrows.scenes import ASKED, Scene
+from latestrows.scenes import ASKED
+from latestrows.steps import CONSTANT, LOOK, ROW, open_step, steps_on
 from latestrows.tables import Table
 from latestrows.ways import first_way
-
-# A step of a reader on a way is a pair of one of these words and of what it is about: the outcome is
-# known (a row by its look, a constant by its number, or nothing), or it depends on a look, or on the times
-# of a reader, of which nothing has been chosen yet.
-ROW = "row"
-CONSTANT = "constant"
-NOTHING = "missing"
-LOOK = "look"
-EARLIER = "earlier"
 
 # Above each difference that is bounded at all: there are less than 20 unknowns, and bounds stay below 10 ** 11.
 FAR = 1000000000000000
 
 
-def outcome_ways(readers, setting):
-    """Each way on which the outcomes of all these readers are known, with the list of these outcomes."""
-    way = first_way(Scene(readers, setting))
+def outcome_ways(scene):
+    """Each way on which the outcomes of all readers of the scene are known, with the list of these steps."""
+    way = first_way(scene)
     if way is not None:
         yield from _ways_from(way)
 
 
 def _ways_from(way):
-    outcomes = []
-    for reader in way.scene.readers:
-        step = _step(way, reader)
-        if step[0] == LOOK or step[0] == EARLIER:
-            for further in _ways_behind(way, step):
-                yield from _ways_from(further)
-            return
-        outcomes.append(step)
-    yield way, outcomes
+    question = open_step(way)
+    if question is None:
+        yield way, steps_on(way)
+        return
+    prefix, step = question
+    for further in _ways_behind(way, prefix, step):
+        yield from _ways_from(further)
 
 
-def _ways_behind(way, step):
+def _ways_behind(way, prefix, step):
     """The ways on which what the step depends on is chosen."""
     word, what = step
     if word == LOOK:
         ways = [way.with_look(what, found) for found in (True, False)]
     else:
-        ways = [way.with_earlier(what.time, what.other, is_earlier) for is_earlier in (True, False)]
+        ways = [way.with_earlier(prefix, what, is_earlier) for is_earlier in (True, False)]
     return [further for further in ways if further is not None]
 
 
-def _step(way, reader):
-    if isinstance(reader, Missing):
-        return NOTHING, None
-    if isinstance(reader, Constant):
-        return CONSTANT, reader.number
-    if isinstance(reader, Value):
-        step = _looks_step(way, reader.look.looks)
-        return (ROW, reader.look) if step is None else step
-    if isinstance(reader, Else):
-        step = _step(way, reader.first)
-        return _step(way, reader.second) if step[0] == NOTHING else step
-    return _earlier_step(way, reader)
-
-
-def _earlier_step(way, reader):
-    for time in (reader.time, reader.other):
-        step = _looks_step(way, time.looks)
-        if step is not None:
-            return step
-    pair = (reader.time.text, reader.other.text)
-    if pair not in way.earlier:
-        return EARLIER, reader
-    return _step(way, reader.first if way.earlier[pair] else reader.second)
-
-
-def _looks_step(way, looks):
-    """None if all of these looks, which are inside one another, find rows; else nothing, or the look to be asked."""
-    for look in sorted(looks, key=lambda inside: inside.depth):
-        if look.text not in way.found:
-            return LOOK, look
-        if not way.found[look.text]:
-            return NOTHING, None
-    return None
+def unlike_ways(way, steps):
+    """The ways behind this one on which the two outcomes are not the same."""
+    (word, what), (other_word, other) = steps
+    if word != other_word:
+        return [way]
+    if word != ROW:
+        return [] if what == other else [way]
+    if what.feed != other.feed:
+        return [way]
+    before, _, behind = way.scene.order_choice(what.feed, what.place, other.place).sides
+    ways = [way.with_bounds(order) for order in (before, behind)]
+    return [unlike for unlike in ways if unlike is not None]
 
 
 def solution(way):
     """Integers for the unknowns on the way that keep all that holds on it; None if there are none."""
-    values, broken = _tried(way, way.bounds)
+    values, broken = tried(way, way.bounds)
     if broken is None:
         return values
-    for side in broken:
+    for side in broken.sides:
         further = way.with_bounds(side)
         values = None if further is None else solution(further)
         if values is not None:
@@ -107,17 +75,17 @@ def greatest(way, x, y, best):
         return best
     bounds = way.bounds.copied()
     bounds.require(y, x, -most)
-    _, broken = _tried(way, bounds)
+    _, broken = tried(way, bounds)
     if broken is None:
         return most
-    for side in broken:
+    for side in broken.sides:
         further = way.with_bounds(side)
         if further is not None:
             best = greatest(further, x, y, best)
     return best
 
 
-def _tried(way, bounds):
+def tried(way, bounds):
     """Integers that keep the bounds, and a choice of the way that they do not keep; None if they keep all."""
     for highest in (True, False):
         values = bounds.solution(way.live, highest)
@@ -129,7 +97,7 @@ def _tried(way, bounds):
 
 def _broken_choice(way, values):
     for choice in way.choices:
-        if not any([_keeps(values, side) for side in choice]):
+        if not any([_keeps(values, side) for side in choice.sides]):
             return choice
     return None
 
@@ -138,9 +106,9 @@ def _keeps(values, side):
     return all([values[x] - values[y] <= most for x, y, most in side])
 
 
-def shown(way, values, outcomes):
+def shown(way, values, steps):
     """The table and the time that these integers make; outcomes that are unlike give different integers there."""
-    constants = [what for word, what in outcomes if word == CONSTANT]
+    constants = [what for word, what in steps if word == CONSTANT]
     numbers = {}
     number = 0
     for feed, unknown in way.rows:

@@ -1,24 +1,23 @@
 """Ways: what has been chosen of how the looks of some readers find rows (point 17)."""
 
-from latestrows.scenes import ASKED
+from latestrows.scenes import ASKED, LATE
 
 
 def first_way(scene):
     """The way on which nothing has been chosen yet; None if it cannot be gone."""
     way = Way(scene, scene.first_bounds())
-    if scene.setting.at_rows is not None:
-        way.rows.append((scene.setting.at_rows, ASKED))
-    return way if way.settle_grid_times() else None
+    return way if way.begin() and way.narrow() else None
 
 
 class Way:
     """What has been chosen, the bounds that hold therefore, and the choices that are left.
 
-    `found` tells of the looks that were asked, by their texts, whether they
+    `found` tells of the looks that were asked, by their labels, whether they
     found a row; `earlier` of the pairs of times that were compared, by their
-    texts, whether the first one is at most the second one. `rows` has a pair of
-    a feed and an unknown for each row of the table, and `live` has the unknowns
-    that are on this way.
+    labels, whether the first one is at most the second one; `orders` of the
+    pairs of rows that were put in order, by their unknowns, which side of their
+    choice was taken. `rows` has a pair of a feed and an unknown for each row of
+    the table, and `live` has the unknowns that are on this way.
     """
 
     def __init__(self, scene, bounds):
@@ -26,6 +25,7 @@ class Way:
         self.bounds = bounds
         self.found = {}
         self.earlier = {}
+        self.orders = {}
         self.rows = []
         self.live = [ASKED]
         self.choices = []
@@ -34,6 +34,7 @@ class Way:
         way = Way(self.scene, self.bounds.copied())
         way.found = dict(self.found)
         way.earlier = {pair: self.earlier[pair] for pair in self.earlier}
+        way.orders = {pair: self.orders[pair] for pair in self.orders}
         way.rows = list(self.rows)
         way.live = list(self.live)
         way.choices = list(self.choices)
@@ -47,41 +48,61 @@ class Way:
     def with_look(self, look, found):
         """The way on which the look, whose time is settled, finds a row, or none; None if it cannot be gone."""
         way = self.copied()
-        way.found[look.text] = found
+        return way if way.ask(look, found) and way.narrow() else None
+
+    def with_earlier(self, prefix, reader, is_earlier):
+        """The way on which the first time of the reader is at most its other one, or not; None likewise."""
+        way = self.copied()
+        return way if way.compare(prefix, reader, is_earlier) and way.narrow() else None
+
+    def begin(self):
+        """Adds what holds from the start; tells whether it can be kept."""
+        if self.scene.setting.at_rows is not None:
+            self._take_row(self.scene.setting.at_rows, ASKED)
+        if self.scene.late is not None:
+            self._take_row(self.scene.late, LATE)
+            self.live.append(LATE)
+        return self._settle_grid_times()
+
+    def ask(self, look, found):
+        """Adds that the look finds a row, or none, with all that holds for it; tells whether it can be kept."""
+        self.found[look.label] = found
         for feed, row in self.rows:
             if feed == look.feed:
-                way.choices.append(self.scene.side_choice(look, found, row))
-        if found and not way.take_row(look):
-            return None
-        return way if way.narrow() else None
+                self._take_side(look, row)
+        if not found:
+            return True
+        self._take_row(look.feed, look.place)
+        self.live.append(look.place)
+        return self.keep(self.scene.found_bounds(look)) and self._settle_grid_times()
 
-    def with_earlier(self, time, other, is_earlier):
-        """The way on which the first time is at most the other one, or not; None if it cannot be gone."""
-        way = self.with_bounds(self.scene.earlier_bounds(time, other, is_earlier))
-        if way is not None:
-            way.earlier[time.text, other.text] = is_earlier
-        return way
+    def compare(self, prefix, reader, is_earlier):
+        """Adds that the first time of the reader is at most its other one, or not; tells whether it can be kept."""
+        self.earlier[prefix + reader.time.text, prefix + reader.other.text] = is_earlier
+        return self.keep(self.scene.earlier_bounds(prefix, reader.time, reader.other, is_earlier))
 
-    def take_row(self, look):
-        """Adds the row that the look finds, with all that holds for it; tells whether it can be kept."""
-        own = self.scene.place(look)
-        for feed, row in self.rows:
-            if feed == look.feed and self.scene.is_close(feed):
+    def _take_row(self, feed, own):
+        for other_feed, row in self.rows:
+            if other_feed == feed and self.scene.needs_order(feed, row, own):
                 self.choices.append(self.scene.order_choice(feed, row, own))
-        for asked in self.scene.looks:
-            if asked.feed == look.feed and asked.text in self.found and asked.text != look.text:
-                self.choices.append(self.scene.side_choice(asked, self.found[asked.text], own))
-        self.rows.append((look.feed, own))
-        self.live.append(own)
-        return self.keep(self.scene.found_bounds(look)) and self.settle_grid_times()
+        for label in self.found:
+            look = self.scene.labelled_looks[label]
+            if look.feed == feed and look.place != own:
+                self._take_side(look, own)
+        self.rows.append((feed, own))
 
-    def settle_grid_times(self):
+    def _take_side(self, look, row):
+        if self.scene.sees(look, row):
+            self.choices.append(self.scene.side_choice(look, self.found[look.label], row))
+
+    def _settle_grid_times(self):
         """Adds what holds for the grid times that are settled by now; tells whether it can be kept."""
-        for time in self.scene.grid_times:
-            place = self.scene.place(time)
-            if place not in self.live and all([self.found.get(look.text, False) for look in time.looks]):
+        for label in self.scene.labelled_grid_times:
+            prefix, time = self.scene.labelled_grid_times[label]
+            place = self.scene.places[label]
+            if place not in self.live and all([self.found.get(prefix + look.text, False) for look in time.looks]):
                 self.live.append(place)
-                if not self.keep(self.scene.grid_time_bounds(time)):
+                if not self.keep(self.scene.grid_time_bounds(label)):
                     return False
         return True
 
@@ -99,17 +120,25 @@ class Way:
             again = False
             left = []
             for choice in self.choices:
-                open_sides = [side for side in choice if not self._rules_out(side)]
+                open_sides = self.open_sides(choice)
                 if not open_sides:
                     return False
                 if len(open_sides) == 1:
                     again = True
                     if not self.keep(open_sides[0]):
                         return False
-                elif not any([self._holds(side) for side in open_sides]):
-                    left.append(open_sides)
+                elif not self.decides(choice):
+                    left.append(choice.narrowed(open_sides))
             self.choices = left
         return True
+
+    def open_sides(self, choice):
+        """The sides of the choice that the bounds do not rule out."""
+        return [side for side in choice.sides if not self._rules_out(side)]
+
+    def decides(self, choice):
+        """Whether one of the sides follows from the bounds."""
+        return any([self._holds(side) for side in choice.sides])
 
     def _rules_out(self, side):
         return any([self.bounds.rules_out(x, y, most) for x, y, most in side])

@@ -93,3 +93,19 @@ def check_example(test, example, readers, setting):
     looks = {str(look) for reader in readers for look in reader.looks}
     test.assertLessEqual(len(example.table), len(looks) + (1 if setting.at_rows is not None else 0))
     return [plain_outcome(reader, example.table.rows, example.time, setting.grid) for reader in readers]
+
+
+def check_change(test, change, reader, feed, distance, setting):
+    """The change is one by a late row of the feed at this distance, with few enough rows that the setting allows."""
+    test.assertIsInstance(change.before, Table)
+    test.assertIsInstance(change.after, Table)
+    test.assertIs(type(change.time), int)
+    before, after, asked = change.before.rows, change.after.rows, change.time
+    late = [row for row in after if row not in before]
+    test.assertEqual([row[:2] for row in late], [(feed, asked + distance)])
+    test.assertEqual(before, tuple(row for row in after if row not in late))
+    for rows in (before, after):
+        test.assertIs(plain_keeps(setting, rows), True)
+        test.assertIs(plain_asks(setting, rows, asked), True)
+    test.assertLessEqual(len(before), 2 * len(reader.looks) + (1 if setting.at_rows is not None else 0))
+    test.assertNotEqual(*[plain_read(reader, rows, asked, setting.grid) for rows in (before, after)])
