@@ -263,7 +263,8 @@ class LooksAheadTest(unittest.TestCase):
     def test_not_ahead(self):
         for text in ("missing", "constant(3)", "value(before(a, now))", "value(after(a, now, 0))",
                      "value(before(a, floor(shift(now, 0))))", "value(after(b, shift(now, -3), 3))",
-                     "value(before(a, time(after(b, shift(now, -5), 5)), 9))", "else(constant(1), value(after(a, now)))"):
+                     "value(before(a, time(after(b, shift(now, -5), 5)), 9))",
+                     "else(constant(1), value(after(a, now)))"):
             self.assert_looks_ahead(text, "grid 5 1", False)
 
     def test_ahead(self):

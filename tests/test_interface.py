@@ -39,7 +39,22 @@ CLASSES = {
                     "__str__": "(self)", "__eq__": "(self, other)", "__repr__": "(self)"},
     },
     "comparing": {"Example": {"__init__": "(self, table, time)"}},
+    "changes": {"Change": {"__init__": "(self, before, after, time)"}},
+    "plans": {
+        "Plan": {"__init__": "(self, left, *columns)", "reader": "(self, name)", "run": "(self, table, *, grid=None)",
+                 "__len__": "(self)", "__contains__": "(self, x)", "__eq__": "(self, other)", "__repr__": "(self)"},
+    },
+    "stores": {
+        "Store": {"__init__": "(self, plan, setting)", "table_of": "(self, group)", "answers": "(self, group)",
+                  "do": "(self, deed)", "do_all": "(self, *deeds, watch=None)", "undo": "(self)", "__len__": "(self)",
+                  "__repr__": "(self)"},
+    },
 }
+
+FILES = [
+    "limits", "errors", "tables", "times", "readers", "texts", "settings", "running", "comparing", "ages", "changes",
+    "idle", "plans", "stores", "reports", "checker", "certificates",
+]
 
 STATIC = {("tables", "Table", "of"): "(rows)", ("settings", "Setting", "read"): "(text)"}
 
@@ -50,6 +65,15 @@ FUNCTIONS = {
     "comparing": {"alike": "(reader, other, setting)", "difference": "(reader, other, setting)",
                   "outcomes": "(reader, setting)"},
     "ages": {"age_range": "(reader, feed, setting)", "example_aged": "(reader, feed, age, setting)"},
+    "changes": {"change_at": "(reader, feed, distance, setting)", "change_range": "(reader, feed, setting)",
+                "looks_ahead": "(reader, setting)"},
+    "idle": {"idle_parts": "(reader, setting)", "idle_bounds": "(reader, setting)"},
+    "plans": {"alike_plans": "(plan, second, setting)", "plans_difference": "(plan, second, setting)"},
+    "stores": {"what_if": "(store, group, *deeds)"},
+    "reports": {"report": "(reader, setting)"},
+    "checker": {"holds": "(claim, certificate)"},
+    "certificates": {"certify_alike": "(reader, other, setting)", "certify_age": "(reader, feed, number, setting)",
+                     "certify_late": "(reader, feed, number, setting)"},
 }
 
 
@@ -87,6 +111,15 @@ class InterfaceTest(unittest.TestCase):
 
     def test_what_is_iterated_as_it_is_asked(self):
         self.assertIs(inspect.isgeneratorfunction(module("tables").Table.times), True)
+        self.assertIs(inspect.isgeneratorfunction(module("plans").Plan.run), True)
+
+    def test_equal_to_themselves_alone(self):
+        for file, name in (("comparing", "Example"), ("changes", "Change"), ("stores", "Store")):
+            self.assertNotIn("__eq__", vars(vars(module(file))[name]))
+
+    def test_the_files(self):
+        for file in FILES:
+            self.assertIsNotNone(module(file).__doc__, file)
 
 
 if __name__ == "__main__":

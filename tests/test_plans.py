@@ -63,7 +63,8 @@ class MakingTest(RaisingCase):
     def test_feeds(self):
         self.assertEqual(three().feeds, ("bid", "old", "ref", "trade"))
         self.assertEqual(Plan("z", ("c", None, Constant(1))).feeds, ("z",))
-        self.assertEqual(Plan("a", ("c", None, read_reader("value(before(b, time(before(a, now))))"))).feeds, ("a", "b"))
+        inside = read_reader("value(before(b, time(before(a, now))))")
+        self.assertEqual(Plan("a", ("c", None, inside)).feeds, ("a", "b"))
         both = read_reader("ifearlier(time(before(d, now)), now, value(before(c, now)), value(after(d, now)))")
         self.assertEqual(Plan("e", ("c", None, both), ("b", None, both)).feeds, ("c", "d", "e"))
 
@@ -180,7 +181,8 @@ class ColumnErrorsTest(RaisingCase):
         Plan("x", ("a", None, two), ("b", "a", one))
         self.assert_index(2, ("a", None, two), ("b", "a", one), ("c", "b", one))
         self.assert_index(1, ("a", None, two), ("b", "a", two))
-        self.assert_index(1, ("a", None, two), ("b", "a", read_reader("else(value(before(c, now)), value(after(c, now)))")))
+        both = read_reader("else(value(before(c, now)), value(after(c, now)))")
+        self.assert_index(1, ("a", None, two), ("b", "a", both))
         # Constants look nowhere, so that the looks of the base do not count.
         self.assertEqual(Plan("x", ("a", None, two), ("b", "a", Constant(1))).reader("b").looks, ())
 
@@ -342,7 +344,8 @@ class AlikePlansTest(RaisingCase):
                 self.assert_raised(NotAPlan, wrong, call, gridded, wrong, None)
             for wrong in NOT_SETTINGS:
                 self.assert_raised(NotASetting, wrong, call, plain, gridded, wrong)
-            for pair in ((plain, gridded), (gridded, plain), (gridded, gridded), (Plan("y", ("c", None, BID)), gridded)):
+            other = Plan("y", ("c", None, BID))
+            for pair in ((plain, gridded), (gridded, plain), (gridded, gridded), (other, gridded)):
                 self.assert_bare(NoGrid, call, *pair, Setting(apart=(("a", 2),), at_rows="a"))
 
     def test_the_example_of_the_document(self):
