@@ -11,7 +11,7 @@ ASKED = "t"
 LATE = "p"
 
 # The bound that nothing keeps.
-NEVER = (ASKED, ASKED, -1)
+NEVER = ("t", "t", -1)
 
 
 def more(total, by):

@@ -24,7 +24,7 @@ LATE_SIDE = "late side"
 ORDER = "order"
 
 # A bound that nothing keeps.
-NEVER = (ASKED, ASKED, -1)
+NEVER = (0, 0, -1)
 
 
 def late_scene(reader, feed, setting):
