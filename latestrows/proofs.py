@@ -79,7 +79,6 @@ class Proof:
         # Of the row that might be the late one, the side of being it comes first.
         for side in choice.sides[-2:]:
             further = way.copied()
-            further.choices.remove(choice)
             further.keep(side)
             trees.append(self.tree(further))
         return ("side", choice.first, scene.names[choice.second], *trees)

@@ -1,4 +1,5 @@
 import unittest
+import unittest.mock
 
 from latestrows.ages import age_range, example_aged
 from latestrows.certificates import certify_age, certify_alike, certify_late
@@ -16,6 +17,11 @@ from latestrows.times import Now
 from nested import SOME_READERS, Maker
 from plain_trees import plain_closes
 from raising import RaisingCase
+from test_ages import NEVER as NEVER_READ
+from test_ages import RANGES as AGES
+from test_changes import NEVER as NEVER_CHANGED
+from test_changes import RANGES as CHANGES
+from test_comparing import PAIRS
 from wrong_parts import NOT_READERS, NOT_SETTINGS
 from wrong_values import NOT_INTEGERS, NOT_NAMES
 
@@ -126,7 +132,41 @@ class AlikeTest(CertificatesCase):
                     pass
 
 
+    def test_each_pair_that_is_compared(self):
+        for first, second, alike_under, unlike_under in PAIRS:
+            readers = read_reader(first), read_reader(second)
+            for word, texts in (("alike", alike_under), ("unlike", unlike_under)):
+                for text in texts:
+                    with self.subTest(first=first, second=second, setting=text):
+                        setting = Setting.read(text)
+                        self.assertEqual(self.assert_alike(*readers, setting)[0][0], word)
+                        self.assertEqual(self.assert_alike(*readers[::-1], setting)[0][0], word)
+
+    def test_rows_that_are_found_in_another_order(self):
+        """The outcomes are rows of which the second one was found first."""
+        inner = read_reader("value(before(a, time(before(a, now))))")
+        for text in ("any", "apart a 2", "apart a 2; at a", "grid 3 1; apart a 5; on a"):
+            for pair in ((inner, read_reader(NOW)), (read_reader(NOW), inner)):
+                self.assertEqual(self.assert_alike(*pair, Setting.read(text))[0][0], "alike")
+
+
 class AgeTest(CertificatesCase):
+    def test_each_range(self):
+        for text, feed, setting, (_, oldest) in AGES:
+            reader, known = read_reader(text), Setting.read(setting)
+            with self.subTest(text=text, feed=feed, setting=setting):
+                if oldest is not None:
+                    claim, _ = self.assert_age(reader, feed, oldest, known)
+                    self.assertEqual(claim[0], "age at most")
+                    claim, _ = self.assert_age(reader, feed, oldest - 1, known)
+                    self.assertEqual((claim[0], claim[3]), ("age", oldest))
+                self.assert_age(reader, feed, -FAR, known)
+        for text, feed, setting in NEVER_READ:
+            with self.subTest(text=text, feed=feed, setting=setting):
+                for number in (-FAR, 0, FAR):
+                    claim, _ = self.assert_age(read_reader(text), feed, number, Setting.read(setting))
+                    self.assertEqual((claim[0], claim[3]), ("age at most", number))
+
     def test_numbers(self):
         reader = read_reader("else(value(before(a, now, 2)), value(before(a, shift(now, -5), 2)))")
         for number in (-FAR, -9, -1, 0, 1, 2, 3, 4, 5, 6, 7, 8, FAR):
@@ -157,6 +197,22 @@ class AgeTest(CertificatesCase):
 
 
 class LateTest(CertificatesCase):
+    def test_each_range(self):
+        for text, feed, setting, (_, farthest) in CHANGES:
+            reader, known = read_reader(text), Setting.read(setting)
+            with self.subTest(text=text, feed=feed, setting=setting):
+                if farthest is not None:
+                    claim, _ = self.assert_late(reader, feed, farthest, known)
+                    self.assertEqual(claim[0], "unchanged")
+                    claim, _ = self.assert_late(reader, feed, farthest - 1, known)
+                    self.assertEqual((claim[0], claim[3]), ("changed", farthest))
+                self.assert_late(reader, feed, -FAR, known)
+        for text, feed, setting in NEVER_CHANGED:
+            with self.subTest(text=text, feed=feed, setting=setting):
+                for number in (-FAR, 0, FAR):
+                    claim, _ = self.assert_late(read_reader(text), feed, number, Setting.read(setting))
+                    self.assertEqual((claim[0], claim[3]), ("unchanged", number))
+
     def test_numbers(self):
         reader = read_reader("else(value(before(a, now, 2)), value(before(a, shift(now, -5), 2)))")
         for number in (-FAR, -9, -8, -7, -6, -5, -4, -3, -2, -1, 0, 1, FAR):
@@ -224,6 +280,22 @@ class ManyLooksTest(CertificatesCase):
                 same = read_reader(str(reader).replace("before(a, floor(now)", "before(a, floor(shift(now, 0))"))
                 self.assertEqual(self.assert_alike(reader, same, setting)[0][0], "alike")
                 for number in (-10 ** 9, 0, 500, 10 ** 10):
+                    self.assert_age(reader, "a", number, setting)
+                    self.assert_late(reader, "a", number, setting)
+
+
+class TriedTest(CertificatesCase):
+    def test_only_by_trial(self):
+        """What has no other way left is put into trees first; they close without that, too, if longer."""
+        with unittest.mock.patch("latestrows.proofs._forced_choice", lambda _: None):
+            for first, second, alike_under, _ in PAIRS:
+                for text in alike_under:
+                    self.assert_alike(read_reader(first), read_reader(second), Setting.read(text))
+            for seed in range(40):
+                setting = Setting.read(SETTINGS[seed % len(SETTINGS)])
+                maker = Maker(seed, feeds="a" if seed % 3 == 0 else "ab", grid=setting.grid is not None)
+                reader = maker.reader(maker.looks(seed % 3 + 1), seed % 6)
+                for number in (-2, 3, FAR):
                     self.assert_age(reader, "a", number, setting)
                     self.assert_late(reader, "a", number, setting)
 

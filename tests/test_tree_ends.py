@@ -2,6 +2,10 @@
 
 import unittest
 
+from latestrows.certificates import certify_late
+from latestrows.settings import Setting
+from latestrows.texts import read_reader
+
 from hand_trees import (
     AGED, AGED_TREE, ALIKE, ALIKE_TREE, CEIL, END, GRID, GRID_TREE, LATE, LATE_TREE, NEAR, NOW, ONE, SAME, WITH,
     WITHOUT, TreesCase, changed, clash, under,
@@ -150,6 +154,19 @@ class TwoRunsTest(TreesCase):
     def test_numbers(self):
         for number in (-10 ** 59, -5, -1, 1, 5):
             self.assert_refused((*LATE[:3], number, "any"), LATE_TREE)
+
+    def test_ages_are_of_no_account(self):
+        """The bound for rows that are too old is stated for claims of ages alone."""
+        for label in ("0 " + NEAR, "1 " + NEAR):
+            claim = ("unchanged", f"value({NEAR})", "a", 6, "any")
+            chain = clash((label, "t", -7), ("t", label, 5))
+            both = ("look", "0 " + NEAR, ("look", "1 " + NEAR, chain, chain), ("look", "1 " + NEAR, chain, END))
+            self.assert_refused(claim, both)
+            self.assert_refused(claim, ("look", label, chain, END))
+        claim = ("unchanged", f"else(value({NEAR}), constant(7))", "a", 6, "any")
+        tree, again = certify_late(read_reader(claim[1]), "a", 6, Setting())[1], "0 " + NEAR
+        self.assert_closes(claim, tree)
+        self.assert_refused(claim, ("look", again, clash((again, "t", -7), ("t", again, 5)), tree[3]))
 
     def test_the_feed_of_the_late_row(self):
         self.assert_refused((*LATE[:2], "b", *LATE[3:]), LATE_TREE)
