@@ -5,7 +5,7 @@ from latestrows.errors import NeverRead
 from latestrows.kinds import check_name, check_number
 from latestrows.readers import check_reader
 from latestrows.scenes import ASKED, Scene
-from latestrows.search import FAR, greatest, outcome_ways, shown, solution
+from latestrows.search import difference_range, least_above, outcome_ways, shown, solution_apart
 from latestrows.settings import check_setting_for
 from latestrows.steps import ROW
 
@@ -15,13 +15,10 @@ def age_range(reader, feed, setting):
     check_reader(reader)
     check_name(feed)
     check_setting_for([reader], setting)
-    oldest = ahead = None
-    for way, row in _ways_to_rows(reader, feed, setting):
-        oldest = greatest(way, ASKED, row, oldest)
-        ahead = greatest(way, row, ASKED, ahead)
-    if oldest is None:
+    ages = difference_range(list(_ways_to_rows(reader, feed, setting)))
+    if ages is None:
         raise NeverRead(feed)
-    return (None if ahead == FAR else -ahead), (None if oldest == FAR else oldest)
+    return ages
 
 
 def example_aged(reader, feed, age, setting):
@@ -30,11 +27,10 @@ def example_aged(reader, feed, age, setting):
     check_name(feed)
     check_number(age)
     check_setting_for([reader], setting)
-    for way, row in _ways_to_rows(reader, feed, setting):
-        aged = way.with_bounds([(ASKED, row, age), (row, ASKED, -age)])
-        values = None if aged is None else solution(aged)
+    for way, asked, row in _ways_to_rows(reader, feed, setting):
+        values = solution_apart(way, asked, row, age)
         if values is not None:
-            table, time = shown(aged, values, [])
+            table, time = shown(way, values, [])
             return Example(table, time)
     return None
 
@@ -45,18 +41,13 @@ def least_age_above(reader, feed, number, setting):
     check_name(feed)
     check_number(number)
     check_setting_for([reader], setting)
-    ahead = None
-    for way, row in _ways_to_rows(reader, feed, setting):
-        older = way.with_bounds([(row, ASKED, -number - 1)])
-        if older is not None:
-            ahead = greatest(older, row, ASKED, ahead)
-    return None if ahead is None else -ahead
+    return least_above(list(_ways_to_rows(reader, feed, setting)), number)
 
 
 def _ways_to_rows(reader, feed, setting):
-    """Each way on which a row of the feed is given, with the unknown for its time."""
+    """Each way on which a row of the feed is given, with the unknowns of which its age is the difference."""
     scene = Scene([("", reader)], setting)
     for way, steps in outcome_ways(scene):
         word, what = steps[0]
         if word == ROW and what.feed == feed:
-            yield way, what.place
+            yield way, ASKED, what.place

@@ -4,7 +4,7 @@ from latestrows.errors import NeverChanged
 from latestrows.kinds import check_name, check_number
 from latestrows.readers import check_reader
 from latestrows.scenes import ASKED, LATE, late_scene
-from latestrows.search import FAR, greatest, outcome_ways, shown, solution, unlike_ways
+from latestrows.search import difference_range, least_above, outcome_ways, shown, solution_apart, unlike_ways
 from latestrows.settings import check_setting_for
 
 
@@ -23,12 +23,13 @@ def change_at(reader, feed, distance, setting):
     check_name(feed)
     check_number(distance)
     check_setting_for([reader], setting)
-    for way, steps in _changing_ways(reader, feed, setting):
-        away = way.with_bounds([(LATE, ASKED, distance), (ASKED, LATE, -distance)])
-        values = None if away is None else solution(away)
-        if values is not None:
-            after, time = shown(away, values, steps)
-            return Change(after.without(feed, values[LATE]), after, time)
+    scene = late_scene(reader, feed, setting)
+    for way, steps in outcome_ways(scene):
+        for unlike in unlike_ways(way, steps):
+            values = solution_apart(unlike, LATE, ASKED, distance)
+            if values is not None:
+                after, time = shown(unlike, values, steps)
+                return Change(after.without(feed, values[LATE]), after, time)
     return None
 
 
@@ -37,13 +38,10 @@ def change_range(reader, feed, setting):
     check_reader(reader)
     check_name(feed)
     check_setting_for([reader], setting)
-    behind = ahead = None
-    for way, _ in _changing_ways(reader, feed, setting):
-        behind = greatest(way, ASKED, LATE, behind)
-        ahead = greatest(way, LATE, ASKED, ahead)
-    if behind is None:
+    distances = difference_range(_changing_ways(reader, feed, setting))
+    if distances is None:
         raise NeverChanged(feed)
-    return (None if behind == FAR else -behind), (None if ahead == FAR else ahead)
+    return distances
 
 
 def looks_ahead(reader, setting):
@@ -60,17 +58,13 @@ def least_change_above(reader, feed, number, setting):
     check_name(feed)
     check_number(number)
     check_setting_for([reader], setting)
-    behind = None
-    for way, _ in _changing_ways(reader, feed, setting):
-        beyond = way.with_bounds([(ASKED, LATE, -number - 1)])
-        if beyond is not None:
-            behind = greatest(beyond, ASKED, LATE, behind)
-    return None if behind is None else -behind
+    return least_above(_changing_ways(reader, feed, setting), number)
 
 
 def _changing_ways(reader, feed, setting):
-    """Each way on which the outcomes without and with the late row are not the same, with both outcomes."""
+    """All ways on which the late row changes the answer, with the unknowns of which its distance is the difference."""
     scene = late_scene(reader, feed, setting)
+    found = []
     for way, steps in outcome_ways(scene):
-        for unlike in unlike_ways(way, steps):
-            yield unlike, steps
+        found.extend([(unlike, LATE, ASKED) for unlike in unlike_ways(way, steps)])
+    return found

@@ -63,7 +63,7 @@ def solution(way):
     return None
 
 
-def greatest(way, x, y, best):
+def _greatest(way, x, y, best):
     """The greatest difference x - y on the way if it is above the best one so far, and else that one.
 
     None stands for that there is none so far, FAR for that there is no greatest.
@@ -81,8 +81,38 @@ def greatest(way, x, y, best):
     for side in broken.sides:
         further = way.with_bounds(side)
         if further is not None:
-            best = greatest(further, x, y, best)
+            best = _greatest(further, x, y, best)
     return best
+
+
+def difference_range(ways):
+    """The least and the greatest difference X - Y on the ways, each a triple of a way, X and Y.
+
+    None stands for a side without a bound, and for the whole if none of the ways can be gone.
+    """
+    below = above = None
+    for way, x, y in ways:
+        below = _greatest(way, y, x, below)
+        above = _greatest(way, x, y, above)
+    if above is None:
+        return None
+    return (None if below == FAR else -below), (None if above == FAR else above)
+
+
+def least_above(ways, number):
+    """The least difference X - Y above the number on the ways, given likewise; None if there is none."""
+    below = None
+    for way, x, y in ways:
+        beyond = way.with_bounds([(y, x, -number - 1)])
+        if beyond is not None:
+            below = _greatest(beyond, y, x, below)
+    return None if below is None else -below
+
+
+def solution_apart(way, x, y, difference):
+    """Integers for the unknowns that keep all that holds on the way, X - Y being just this; None if there are none."""
+    exact = way.with_bounds([(x, y, difference), (y, x, -difference)])
+    return None if exact is None else solution(exact)
 
 
 def tried(way, bounds):

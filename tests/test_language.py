@@ -200,6 +200,51 @@ class LanguageTest(unittest.TestCase):
             self.assertNotEqual(free, [], sorted(left))
             left = {name: left[name] for name in left if name not in free}
 
+    def test_sets_that_are_written_out(self):
+        for name, tree in trees():
+            for node in ast.walk(tree):
+                if isinstance(node, ast.Set):
+                    self.assertEqual([part for part in node.elts if isinstance(part, ast.Starred)], [], name)
+
+    def test_what_stands_behind_finally(self):
+        simple = (ast.Name, ast.Attribute, ast.Tuple)
+        for name, tree in trees():
+            for node in ast.walk(tree):
+                if isinstance(node, ast.Try) and node.finalbody:
+                    self.assertEqual(node.handlers, [], (name, node.lineno))
+                    for check in node.finalbody:
+                        self.assertIsInstance(check, ast.If, (name, check.lineno))
+                        self.assertIsInstance(check.test, ast.Compare)
+                        self.assertIsInstance(check.test.ops[0], (ast.Is, ast.IsNot))
+                        for part in check.body:
+                            self.assertIsInstance(part, ast.Assign, (name, part.lineno))
+                            self.assertIsInstance(part.value, simple, (name, part.lineno))
+                            self.assertIsInstance(part.targets[0], simple, (name, part.lineno))
+
+    def test_what_handlers_catch(self):
+        own = [node.name for _, tree in trees() for node in tree.body if isinstance(node, ast.ClassDef)]
+        for name, tree in trees():
+            for node in ast.walk(tree):
+                if isinstance(node, ast.ExceptHandler):
+                    caught = node.type.elts if isinstance(node.type, ast.Tuple) else [node.type]
+                    self.assertEqual([kind.id for kind in caught if kind.id not in own], [], (name, node.lineno))
+
+    def test_module_level(self):
+        """Names are assigned plain values, which contain no other names."""
+        for name, tree in trees():
+            for node in tree.body:
+                if isinstance(node, ast.Assign):
+                    inside = [part for part in ast.walk(node.value) if isinstance(part, (ast.Name, ast.Call))]
+                    self.assertEqual(inside, [], (name, node.lineno))
+
+    def test_no_generator_has_the_name_of_an_attribute(self):
+        stored = {node.attr for _, tree in trees() for node in ast.walk(tree)
+                  if isinstance(node, ast.Attribute) and isinstance(node.ctx, ast.Store)}
+        functions = [node.name for _, tree in trees() for node in ast.walk(tree) if isinstance(node, ast.FunctionDef)]
+        for generator in self.generators():
+            self.assertNotIn(generator, stored)
+            self.assertEqual(functions.count(generator), 1, generator)
+
     def test_words_that_are_barred(self):
         for path in files():
             with open(path, "rb") as opened:
