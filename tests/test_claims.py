@@ -85,6 +85,17 @@ class ClaimsTest(unittest.TestCase):
                 for wrong in NOT_TEXTS + [one for one in NOT_READERS if type(one) is not str] + NOT_NAMES:
                     self.assertIs(holds(claim[:place] + (wrong,) + claim[place + 1:], certificate), False)
 
+    def test_a_sign_more_or_less(self):
+        for claim, certificate in SHOWN:
+            for place in range(len(claim)):
+                text = claim[place]
+                if type(text) is not str or text == "constant(1)":
+                    continue
+                shorter = [text[:at] + text[at + 1:] for at in range(len(text))]
+                longer = [text[:at] + sign + text[at:] for at in range(len(text) + 1) for sign in " ,()A-;\n"]
+                for wrong in shorter + longer:
+                    self.assertIs(holds(claim[:place] + (wrong,) + claim[place + 1:], certificate), False, wrong)
+
     def test_feeds(self):
         for claim, certificate in SHOWN:
             if len(claim) == 5:

@@ -39,6 +39,12 @@ METHODS = (
     "add discard"
 ).split()
 
+# What the checker needs: what claims speak of, running readers, and how it judges trees.
+CHECKER = (
+    "checker.py claims.py trees.py branches.py cases.py errors.py kinds.py limits.py tables.py times.py readers.py "
+    "texts.py settings.py running.py"
+).split()
+
 DOUBLE_UNDERSCORE = (
     "__init__ __eq__ __repr__ __str__ __len__ __iter__ __contains__ __add__ __sub__ __or__"
 ).split()
@@ -199,6 +205,16 @@ class LanguageTest(unittest.TestCase):
             free = [name for name in left if not [other for other in left[name] if other in left]]
             self.assertNotEqual(free, [], sorted(left))
             left = {name: left[name] for name in left if name not in free}
+
+    def test_the_checker_needs_nothing_that_decides(self):
+        needed, left = set(), ["checker.py"]
+        sources = dict(trees())
+        while left:
+            name = left.pop()
+            needed.add(name)
+            modules = [node.module for node in sources[name].body if isinstance(node, ast.ImportFrom)]
+            left += [module.split(".")[1] + ".py" for module in modules if module.split(".")[1] + ".py" not in needed]
+        self.assertEqual(sorted(needed), sorted(CHECKER))
 
     def test_sets_that_are_written_out(self):
         for name, tree in trees():
